@@ -1,0 +1,53 @@
+package fault
+
+import (
+	"errors"
+	"testing"
+
+	"coffer/api"
+)
+
+func TestNumber(t *testing.T) {
+	for _, c := range []struct {
+		err  error
+		want api.Errno
+	}{
+		{nil, api.OK}, {Plan, api.ErrPlan}, {Big, api.ErrBig}, {Tape, api.ErrTape}, {Few, api.ErrFew}, {Bad, api.ErrBad}, {Store, api.ErrStore},
+		{At("here", Tape), api.ErrTape}, {At("there", At("here", Few)), api.ErrFew}, {errors.New("of no kind"), api.ErrBad},
+	} {
+		if got := Number(c.err); got != c.want {
+			t.Errorf("Number(%v) = %d, want %d", c.err, got, c.want)
+		}
+	}
+}
+
+func TestWrapped(t *testing.T) {
+	err := At("there", At("here", Tape))
+	if !errors.Is(err, Tape) || errors.Is(err, Few) {
+		t.Errorf("errors.Is of %v asks for the wrong kind", err)
+	}
+	var place *Place
+	if !errors.As(err, &place) || place.Where != "there" {
+		t.Errorf("errors.As of %v finds the place %v", err, place)
+	}
+	if !errors.As(place.Err, &place) || place.Where != "here" {
+		t.Errorf("errors.As below the outermost finds the place %v", place)
+	}
+	if got, want := err.Error(), "there: here: the tape is too short"; got != want {
+		t.Errorf("the text is %q, want %q", got, want)
+	}
+	if At("here", nil) != nil {
+		t.Error("no error, wrapped, is one")
+	}
+}
+
+func TestTexts(t *testing.T) {
+	seen := map[string]Kind{}
+	for _, k := range []Kind{Plan, Big, Tape, Few, Bad, Store, Kind(99)} {
+		text := k.Error()
+		if other, ok := seen[text]; ok || text == "" {
+			t.Errorf("the kinds %d and %d have one text, %q", other, k, text)
+		}
+		seen[text] = k
+	}
+}
