@@ -2,6 +2,7 @@ package coffer_test
 
 import (
 	"strings"
+	"sync"
 	"testing"
 
 	"coffer/api"
@@ -25,14 +26,19 @@ func product(a, b byte) byte {
 	return byte(whole)
 }
 
-func quotient(a, b byte) byte {
-	for q := range 256 {
-		if product(byte(q), b) == a {
-			return byte(q)
+// inverses has at each element but 0 the one with which its product is 1.
+var inverses = sync.OnceValue(func() (table [256]byte) {
+	for a := range 256 {
+		for b := range 256 {
+			if product(byte(a), byte(b)) == 1 {
+				table[a] = byte(b)
+			}
 		}
 	}
-	panic("no quotient by 0")
-}
+	return table
+})
+
+func quotient(a, b byte) byte { return product(a, inverses()[b]) }
 
 // valueAt is, at x, the polynomial that is ys[i] at xs[i].
 func valueAt(xs, ys []byte, x byte) byte {

@@ -60,7 +60,7 @@ func checkSplit(t *testing.T, value string, p api.Plan, n int) {
 	if need == 0 {
 		return
 	}
-	if got, e := coffer.Split(value, p, n, tape[1:]); got != nil || e != api.ErrTape {
+	if got, e := coffer.Split(value, p, n, tape[1:]); len(got) != 0 || e != api.ErrTape {
 		t.Errorf("Split(%q, %v, %d, %d bytes) = %q, %d, want ErrTape", value, p, n, need-1, got, e)
 	}
 }
@@ -107,7 +107,7 @@ func checkPlan(t *testing.T, p api.Plan, n int) {
 	if isPlan(p, n) {
 		want = api.OK
 	}
-	if got, e := coffer.Split("", p, n, ""); e != want || (got == nil) != (e != api.OK) {
+	if got, e := coffer.Split("", p, n, ""); e != want || (len(got) == 0) != (e != api.OK) {
 		t.Errorf("Split by %v at %d stores = %q, %d, want %d", p, n, got, e, want)
 	}
 	if want == api.OK {
@@ -145,7 +145,7 @@ func TestSplitErrors(t *testing.T) {
 		{"and no more", 5, share(3, 2), 4, 6, api.OK},
 	} {
 		got, e := coffer.Split(strings.Repeat("v", c.size), c.p, c.n, strings.Repeat("t", c.tape))
-		if e != c.e || (got == nil) != (e != api.OK) {
+		if e != c.e || (len(got) == 0) != (e != api.OK) {
 			t.Errorf("%s: Split = %q, %d, want %d", c.what, got, e, c.e)
 		}
 	}

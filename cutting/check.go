@@ -1,8 +1,6 @@
 package cutting
 
 import (
-	"strconv"
-
 	"coffer/api"
 	"coffer/fault"
 )
@@ -11,7 +9,7 @@ func checkTape(tape string, need int) error {
 	if len(tape) >= need {
 		return nil
 	}
-	return fault.At(counted(len(tape), "bytes"), fault.Tape)
+	return fault.AtCount(len(tape), "bytes", fault.Tape)
 }
 
 // checkPieces goes through all pieces for one kind of error ahead of the next:
@@ -24,7 +22,7 @@ func checkPieces(given []api.Piece, n int, l layout) error {
 		return err
 	}
 	if len(given) < l.threshold() {
-		return fault.At(counted(len(given), "pieces"), fault.Few)
+		return fault.AtCount(len(given), "pieces", fault.Few)
 	}
 	return nil
 }
@@ -33,7 +31,7 @@ func checkStores(given []api.Piece, n int) error {
 	var named [api.MaxStores]bool
 	for _, piece := range given {
 		if piece.Store < 0 || piece.Store >= n || named[piece.Store] {
-			return atPiece(piece, fault.Store)
+			return fault.AtStore(piece.Store, fault.Store)
 		}
 		named[piece.Store] = true
 	}
@@ -43,12 +41,8 @@ func checkStores(given []api.Piece, n int) error {
 func checkLengths(given []api.Piece, length int) error {
 	for _, piece := range given {
 		if len(piece.Bytes) != length {
-			return atPiece(piece, fault.At(counted(len(piece.Bytes), "bytes"), fault.Bad))
+			return fault.AtStore(piece.Store, fault.AtCount(len(piece.Bytes), "bytes", fault.Bad))
 		}
 	}
 	return nil
-}
-
-func atPiece(piece api.Piece, err error) error {
-	return fault.At("the piece of store "+strconv.Itoa(piece.Store), err)
 }

@@ -11,6 +11,13 @@ import (
 	"coffer/row"
 )
 
+// PieceLength tells how many bytes each piece of a value of size bytes has. Its
+// errors are those that come ahead of the tape's and the pieces'.
+func PieceLength(p api.Plan, n, size int) (int, error) {
+	l, err := layoutFor(p, n, size)
+	return l.groups, fault.At("plan", err)
+}
+
 // Split gives the pieces of a value, in the order of the n stores.
 func Split(value string, p api.Plan, n int, tape string) ([][]byte, error) {
 	l, err := layoutFor(p, n, len(value))

@@ -37,7 +37,7 @@ func TestErrorsSayWhatAndWhere(t *testing.T) {
 		{join(1, api.Piece{Store: 2, Bytes: "x"}), fault.Few, "join", "1 pieces"},
 	} {
 		var kind fault.Kind
-		var place *fault.Place
+		var place *fault.Located
 		if !errors.Is(c.err, c.kind) || !errors.As(c.err, &kind) || kind != c.kind {
 			t.Errorf("%v is not of the kind %v", c.err, c.kind)
 			continue

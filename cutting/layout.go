@@ -30,7 +30,7 @@ func layoutFor(p api.Plan, n, size int) (layout, error) {
 		return layout{}, err
 	}
 	if size < 0 || size > api.MaxValue {
-		return layout{}, fault.At(counted(size, "bytes"), fault.Big)
+		return layout{}, fault.AtCount(size, "bytes", fault.Big)
 	}
 	group, tape := known(p)
 	groups := (size + len(group) - 1) / len(group)
@@ -48,7 +48,7 @@ func known(p api.Plan) (group, tape []field.Element) {
 
 func checkPlan(p api.Plan, n int) error {
 	if n < 1 || n > api.MaxStores {
-		return fault.At(counted(n, "stores"), fault.Plan)
+		return fault.AtCount(n, "stores", fault.Plan)
 	}
 	if !fits(p, n) {
 		plan := "mode " + strconv.Itoa(p.Mode) + ", T " + strconv.Itoa(p.T) + ", L " + strconv.Itoa(p.L)
@@ -82,8 +82,4 @@ func run(start, count int) []field.Element {
 		xs[i] = field.Element(start + i)
 	}
 	return xs
-}
-
-func counted(count int, what string) string {
-	return strconv.Itoa(count) + " " + what
 }

@@ -13,41 +13,62 @@ type Kind api.Errno
 
 // The kinds have the numbers that callers are told.
 const (
+	Name  = Kind(api.ErrName)
 	Plan  = Kind(api.ErrPlan)
 	Big   = Kind(api.ErrBig)
+	Twice = Kind(api.ErrTwice)
+	Full  = Kind(api.ErrFull)
 	Tape  = Kind(api.ErrTape)
+	Down  = Kind(api.ErrDown)
+	None  = Kind(api.ErrNone)
 	Few   = Kind(api.ErrFew)
+	Mode  = Kind(api.ErrMode)
 	Bad   = Kind(api.ErrBad)
 	Store = Kind(api.ErrStore)
+	Place = Kind(api.ErrPlace)
 )
 
 func (k Kind) Error() string {
 	switch k {
+	case Name:
+		return "no name for an object"
 	case Plan:
 		return "no plan for so many stores"
 	case Big:
 		return "no size of a value"
+	case Twice:
+		return "there is such an object already"
+	case Full:
+		return "there is room for no more"
 	case Tape:
 		return "the tape is too short"
+	case Down:
+		return "the store is down"
+	case None:
+		return "there is no such object"
 	case Few:
 		return "too few pieces"
+	case Mode:
+		return "not a thing to do in this mode"
 	case Bad:
-		return "not as many bytes as a piece must have"
+		return "not what it must be"
 	case Store:
 		return "no store, or one that was named already"
+	case Place:
+		return "no byte of a shard"
 	}
 	return "error " + strconv.Itoa(int(k))
 }
 
-// Place is an error with where it came up. errors.As asks for the outermost.
-type Place struct {
+// Located is an error with where it came up. errors.As asks for the outermost.
+type Located struct {
 	Where string
 	Err   error
 }
 
-func (p *Place) Error() string { return p.Where + ": " + p.Err.Error() }
+func (l *Located) Error() string { return l.Where + ": " + l.Err.Error() }
 
-func (p *Place) Unwrap() error { return p.Err }
+func (l *Located) Unwrap() error { return l.Err }
 
 // At wraps err by where it came up. What is no error stays none, so that a
 // check's answer can be handed on as it is.
@@ -55,7 +76,17 @@ func At(where string, err error) error {
 	if err == nil {
 		return nil
 	}
-	return &Place{Where: where, Err: err}
+	return &Located{Where: where, Err: err}
+}
+
+// AtCount wraps err by how many there were.
+func AtCount(count int, what string, err error) error {
+	return At(strconv.Itoa(count)+" "+what, err)
+}
+
+// AtStore wraps err by the store where it came up.
+func AtStore(store int, err error) error {
+	return At("store "+strconv.Itoa(store), err)
 }
 
 // Number is what the caller of a call is told of err.

@@ -12,7 +12,8 @@ func TestNumber(t *testing.T) {
 		err  error
 		want api.Errno
 	}{
-		{nil, api.OK}, {Plan, api.ErrPlan}, {Big, api.ErrBig}, {Tape, api.ErrTape}, {Few, api.ErrFew}, {Bad, api.ErrBad}, {Store, api.ErrStore},
+		{nil, api.OK}, {Name, api.ErrName}, {Plan, api.ErrPlan}, {Big, api.ErrBig}, {Twice, api.ErrTwice}, {Full, api.ErrFull}, {Tape, api.ErrTape},
+		{Down, api.ErrDown}, {None, api.ErrNone}, {Few, api.ErrFew}, {Mode, api.ErrMode}, {Bad, api.ErrBad}, {Store, api.ErrStore}, {Place, api.ErrPlace},
 		{At("here", Tape), api.ErrTape}, {At("there", At("here", Few)), api.ErrFew}, {errors.New("of no kind"), api.ErrBad},
 	} {
 		if got := Number(c.err); got != c.want {
@@ -26,7 +27,7 @@ func TestWrapped(t *testing.T) {
 	if !errors.Is(err, Tape) || errors.Is(err, Few) {
 		t.Errorf("errors.Is of %v asks for the wrong kind", err)
 	}
-	var place *Place
+	var place *Located
 	if !errors.As(err, &place) || place.Where != "there" {
 		t.Errorf("errors.As of %v finds the place %v", err, place)
 	}
@@ -36,14 +37,18 @@ func TestWrapped(t *testing.T) {
 	if got, want := err.Error(), "there: here: the tape is too short"; got != want {
 		t.Errorf("the text is %q, want %q", got, want)
 	}
-	if At("here", nil) != nil {
+	if At("here", nil) != nil || AtStore(3, nil) != nil || AtCount(3, "bytes", nil) != nil {
 		t.Error("no error, wrapped, is one")
+	}
+	err = AtStore(7, AtCount(-1, "bytes", Bad))
+	if got, want := err.Error(), "store 7: -1 bytes: not what it must be"; got != want || !errors.Is(err, Bad) {
+		t.Errorf("the text is %q, want %q", got, want)
 	}
 }
 
 func TestTexts(t *testing.T) {
 	seen := map[string]Kind{}
-	for _, k := range []Kind{Plan, Big, Tape, Few, Bad, Store, Kind(99)} {
+	for _, k := range []Kind{Name, Plan, Big, Twice, Full, Tape, Down, None, Few, Mode, Bad, Store, Place, Kind(99)} {
 		text := k.Error()
 		if other, ok := seen[text]; ok || text == "" {
 			t.Errorf("the kinds %d and %d have one text, %q", other, k, text)
