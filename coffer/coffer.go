@@ -21,11 +21,7 @@ func Split(value string, p api.Plan, n int, tape string) ([]string, api.Errno) {
 	if err != nil {
 		return nil, fault.Number(err)
 	}
-	texts := make([]string, len(made))
-	for i, piece := range made {
-		texts[i] = string(piece)
-	}
-	return texts, api.OK
+	return texts(made), api.OK
 }
 
 // Join puts a value together (P3).
@@ -84,19 +80,25 @@ func (c *Coffer) Objects() []api.Object {
 }
 
 // Writes tells how many writes were done (P8).
-func (c *Coffer) Writes() int { return 0 }
+func (c *Coffer) Writes() int { return c.vault.Writes() }
 
 // CrashAt lets a write crash (P8).
-func (c *Coffer) CrashAt(n int) {}
+func (c *Coffer) CrashAt(n int) { c.vault.CrashAt(n) }
 
 // Recover puts a coffer that has crashed right (P8).
-func (c *Coffer) Recover() api.Errno { return api.OK }
+func (c *Coffer) Recover() api.Errno { return fault.Number(c.vault.Recover()) }
 
 // Images tells what lies at the stores (P9).
-func (c *Coffer) Images() []string { return nil }
+func (c *Coffer) Images() []string { return texts(c.vault.Images()) }
 
 // Reopen makes a coffer out of what lies at the stores (P9).
-func Reopen(images []string, key uint64) (*Coffer, api.Errno) { return nil, api.OK }
+func Reopen(images []string, key uint64) (*Coffer, api.Errno) {
+	v, err := vault.Reopen(images, key)
+	if err != nil {
+		return nil, fault.Number(err)
+	}
+	return &Coffer{vault: v}, api.OK
+}
 
 // told is bytes as the caller is told them: as a copy, and none with an error.
 func told(bytes []byte, err error) (string, api.Errno) {
@@ -104,4 +106,13 @@ func told(bytes []byte, err error) (string, api.Errno) {
 		return "", fault.Number(err)
 	}
 	return string(bytes), api.OK
+}
+
+// texts is lists of bytes as the caller is told them.
+func texts(lists [][]byte) []string {
+	copies := make([]string, len(lists))
+	for i, list := range lists {
+		copies[i] = string(list)
+	}
+	return copies
 }

@@ -148,7 +148,7 @@ func TestShardsThatAreNotGood(t *testing.T) {
 	for store := range 3 {
 		made, _ := p.m.shard(store, "name")
 		ahead := made[:len(made)-8]
-		for at := range made {
+		for at := range len(made) {
 			for _, with := range []byte{1, 128, 255} {
 				spoilt := []byte(made)
 				spoilt[at] ^= with

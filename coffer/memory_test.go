@@ -1,6 +1,7 @@
 package coffer_test
 
 import (
+	"slices"
 	"testing"
 
 	"coffer/api"
@@ -27,6 +28,74 @@ func TestAnswersAreNewMemory(t *testing.T) {
 	p.spoil(1, "name", 0, 255)
 	if before != was {
 		t.Errorf("an answer of Shard is changed by Spoil: %q, want %q", before, was)
+	}
+}
+
+func TestImagesAreNewMemory(t *testing.T) {
+	p := wanting(t, 5)
+	images := p.c.Images()
+	kept := slices.Clone(images)
+	for i := range images[:cap(images)] {
+		images[:cap(images)][i] = "written"
+	}
+	p.same("an answer of Images was written into")
+	if got := p.c.Images(); !slices.Equal(got, kept) {
+		t.Errorf("Images = %q, want %q", got, kept)
+	}
+	again := p.c.Images()
+	was := slices.Clone(again)
+	p.spoil(1, "name", 3, 255)
+	must(t, "Refresh", p.refresh("eman", noise(3, 2)), api.OK)
+	must(t, "Delete", p.delete("name"), api.OK)
+	if !slices.Equal(again, was) {
+		t.Error("an answer of Images is changed by what comes behind it")
+	}
+}
+
+// What is handed to Reopen stands in a list with spare room behind it.
+func TestReopenLeavesWhatIsHandedIn(t *testing.T) {
+	p := wanting(t, 5)
+	room := append(p.c.Images(), "spare", "room")
+	kept := slices.Clone(room)
+	again := reopen(t, room[:3], p.m)
+	if !slices.Equal(room, kept) {
+		t.Errorf("Reopen made of what was handed in %q", room)
+	}
+	for i := range room {
+		room[i] = "written"
+	}
+	again.same("what was handed to Reopen was written into")
+	again.goOn()
+	p.same("calls of a coffer that was reopened")
+	p.goOn()
+}
+
+// A crash of one coffer is none of another, and what CrashAt was told neither.
+func TestCrashesAreNothingToOthers(t *testing.T) {
+	one, two := wanting(t, 5), wanting(t, 5)
+	other := reopen(t, one.c.Images(), one.m)
+	one.c.CrashAt(1)
+	for _, p := range []*pair{two, other} {
+		must(t, "Put", p.put("new", "value", disperse(3), ""), api.OK)
+	}
+	writes := two.c.Writes()
+	must(t, "Put", one.c.Put("new", "value", disperse(3), ""), api.ErrCrash)
+	half := reopen(t, one.c.Images(), one.m, behind(t, one.m, putting("new", "value", disperse(3), "")))
+	half.up(1, false)
+	for _, p := range []*pair{two, other} {
+		p.same("the crash of another")
+		must(t, "Recover", p.c.Recover(), api.OK)
+		must(t, "Refresh", p.refresh("name", noise(3, 2)), api.OK)
+		must(t, "Delete", p.delete("eman"), api.OK)
+	}
+	if got := two.c.Writes(); got <= writes {
+		t.Errorf("Writes = %d, and %d ahead of calls that write", got, writes)
+	}
+	one.refuses()
+	must(t, "Recover", one.c.Recover(), api.OK)
+	one.adopt("Recover", one.m, behind(t, one.m, putting("new", "value", disperse(3), "")))
+	for _, p := range []*pair{one, two, other, half} {
+		p.goOn()
 	}
 }
 

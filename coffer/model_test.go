@@ -32,6 +32,16 @@ func newModel(n int, key uint64) *model {
 	return &model{n: n, key: key, kept: map[string]keptObject{}}
 }
 
+// clone is the same model, of which one can go on without the other.
+func (m *model) clone() *model {
+	other := *m
+	other.kept = map[string]keptObject{}
+	for name, k := range m.kept {
+		other.kept[name] = keptObject{k.object, slices.Clone(k.shards)}
+	}
+	return &other
+}
+
 // tagged is a text with its tag behind it.
 func tagged(ahead string, key uint64) string {
 	tag := 14695981039346656037 ^ key

@@ -1,6 +1,7 @@
 package coffer_test
 
 import (
+	"fmt"
 	"slices"
 	"testing"
 
@@ -36,18 +37,27 @@ func (p *pair) done(what string, got, want api.Errno) {
 // same checks that the coffer has the objects and the shards of the model.
 func (p *pair) same(behind string) {
 	p.t.Helper()
-	objects := p.m.objects()
-	if got := p.c.Objects(); !slices.Equal(got, objects) {
-		p.t.Fatalf("behind %s: Objects = %v, want %v", behind, got, objects)
+	if d := difference(p.c, p.m); d != "" {
+		p.t.Fatalf("behind %s: %s", behind, d)
+	}
+}
+
+// difference tells the first of the objects and the shards in which a coffer
+// is not as the model.
+func difference(c *coffer.Coffer, m *model) string {
+	objects := m.objects()
+	if got := c.Objects(); !slices.Equal(got, objects) {
+		return fmt.Sprintf("Objects = %v, want %v", got, objects)
 	}
 	for _, o := range objects {
-		for i := range p.m.n {
-			want, _ := p.m.shard(i, o.Name)
-			if got, e := p.c.Shard(i, o.Name); got != want || e != api.OK {
-				p.t.Fatalf("behind %s: Shard(%d, %q) = %q, %d, want %q", behind, i, o.Name, got, e, want)
+		for i := range m.n {
+			want, _ := m.shard(i, o.Name)
+			if got, e := c.Shard(i, o.Name); got != want || e != api.OK {
+				return fmt.Sprintf("Shard(%d, %q) = %q, %d, want %q", i, o.Name, got, e, want)
 			}
 		}
 	}
+	return ""
 }
 
 func (p *pair) put(name, value string, plan api.Plan, tape string) api.Errno {

@@ -54,7 +54,7 @@ func TestSpoil(t *testing.T) {
 		must(t, "Put", p.put(c.name, c.value, c.plan, noise(9, 1)), api.OK)
 		must(t, "Put", p.put("another", "value", disperse(3), ""), api.OK)
 		made, _ := p.shard(1, c.name)
-		for at := range made {
+		for at := range len(made) {
 			for _, with := range []byte{0, 1, 128, 255} {
 				must(t, "Spoil", p.spoil(1, c.name, at, with), api.OK)
 				p.getAll()

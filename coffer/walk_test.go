@@ -58,7 +58,7 @@ func (w *walk) store() int {
 
 func (w *walk) step() {
 	w.t.Helper()
-	switch w.IntN(12) {
+	switch w.IntN(16) {
 	case 0, 1, 2:
 		plan, size := w.plan(), w.IntN(62)
 		w.put(w.name(), w.bytes(size), plan, w.tape(plan, size))
@@ -78,9 +78,53 @@ func (w *walk) step() {
 		w.spoil(w.store(), w.known(), w.IntN(110)-1, byte(w.IntN(256)))
 	case 9:
 		w.mendOrForge()
+	case 10, 11:
+		w.crash()
+	case 12:
+		w.pair = reopen(w.t, w.c.Images(), w.m)
 	default:
 		w.get(w.known())
 	}
+}
+
+// change is one that may be refused.
+func (w *walk) change() change {
+	name := w.known()
+	o := w.m.kept[name].object
+	switch w.IntN(3) {
+	case 0:
+		plan, size := w.plan(), w.IntN(62)
+		return putting(w.name(), w.bytes(size), plan, w.tape(plan, size))
+	case 1:
+		return deleting(name)
+	}
+	return refreshing(name, w.tape(o.Plan, o.Size))
+}
+
+// crash lets a change crash, if it is not refused and does not come to an end
+// first; what is cut off is gone on with in the same coffer or in another.
+func (w *walk) crash() {
+	w.t.Helper()
+	c, after := w.change(), w.m.clone()
+	writes := w.IntN(4 * w.m.n)
+	if want := c.model(after); want != api.OK {
+		w.c.CrashAt(writes)
+		w.do(c)
+		w.c.CrashAt(-1)
+		return
+	}
+	if !w.crashed(c, after, writes) {
+		return
+	}
+	if w.IntN(3) == 0 {
+		must(w.t, "Up", w.c.Up(w.IntN(w.m.n), false), api.OK)
+		must(w.t, "Recover while one is down", w.c.Recover(), api.ErrDown)
+		w.pair = reopen(w.t, w.c.Images(), w.m, after)
+		return
+	}
+	w.c.CrashAt(w.IntN(5))
+	must(w.t, "Recover", w.c.Recover(), api.OK)
+	w.adopt("Recover", w.m, after)
 }
 
 // mendOrForge makes the shards of an object good again, one of them, now and

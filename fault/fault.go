@@ -13,23 +13,27 @@ type Kind api.Errno
 
 // The kinds have the numbers that callers are told.
 const (
-	Name  = Kind(api.ErrName)
-	Plan  = Kind(api.ErrPlan)
-	Big   = Kind(api.ErrBig)
-	Twice = Kind(api.ErrTwice)
-	Full  = Kind(api.ErrFull)
-	Tape  = Kind(api.ErrTape)
-	Down  = Kind(api.ErrDown)
-	None  = Kind(api.ErrNone)
-	Few   = Kind(api.ErrFew)
-	Mode  = Kind(api.ErrMode)
-	Bad   = Kind(api.ErrBad)
-	Store = Kind(api.ErrStore)
-	Place = Kind(api.ErrPlace)
+	Crash  = Kind(api.ErrCrash)
+	Name   = Kind(api.ErrName)
+	Plan   = Kind(api.ErrPlan)
+	Big    = Kind(api.ErrBig)
+	Twice  = Kind(api.ErrTwice)
+	Full   = Kind(api.ErrFull)
+	Tape   = Kind(api.ErrTape)
+	Down   = Kind(api.ErrDown)
+	None   = Kind(api.ErrNone)
+	Few    = Kind(api.ErrFew)
+	Mode   = Kind(api.ErrMode)
+	Bad    = Kind(api.ErrBad)
+	Store  = Kind(api.ErrStore)
+	Place  = Kind(api.ErrPlace)
+	Images = Kind(api.ErrImages)
 )
 
 func (k Kind) Error() string {
 	switch k {
+	case Crash:
+		return "crashed"
 	case Name:
 		return "no name for an object"
 	case Plan:
@@ -56,6 +60,8 @@ func (k Kind) Error() string {
 		return "no store, or one that was named already"
 	case Place:
 		return "no byte of a shard"
+	case Images:
+		return "not what lies at stores"
 	}
 	return "error " + strconv.Itoa(int(k))
 }
@@ -87,6 +93,26 @@ func AtCount(count int, what string, err error) error {
 // AtStore wraps err by the store where it came up.
 func AtStore(store int, err error) error {
 	return At("store "+strconv.Itoa(store), err)
+}
+
+// Told is an error of one kind that came of another. The caller is told the
+// kind, which errors.As finds first; errors.Is finds both.
+type Told struct {
+	Kind Kind
+	Err  error
+}
+
+func (t *Told) Error() string { return t.Kind.Error() + ": " + t.Err.Error() }
+
+func (t *Told) Unwrap() []error { return []error{t.Kind, t.Err} }
+
+// As wraps err by the kind that the caller is told. What is no error stays
+// none.
+func As(kind Kind, err error) error {
+	if err == nil {
+		return nil
+	}
+	return &Told{Kind: kind, Err: err}
 }
 
 // Number is what the caller of a call is told of err.

@@ -12,9 +12,10 @@ func TestNumber(t *testing.T) {
 		err  error
 		want api.Errno
 	}{
-		{nil, api.OK}, {Name, api.ErrName}, {Plan, api.ErrPlan}, {Big, api.ErrBig}, {Twice, api.ErrTwice}, {Full, api.ErrFull}, {Tape, api.ErrTape},
+		{nil, api.OK}, {Crash, api.ErrCrash}, {Images, api.ErrImages}, {Name, api.ErrName}, {Plan, api.ErrPlan}, {Big, api.ErrBig}, {Twice, api.ErrTwice}, {Full, api.ErrFull}, {Tape, api.ErrTape},
 		{Down, api.ErrDown}, {None, api.ErrNone}, {Few, api.ErrFew}, {Mode, api.ErrMode}, {Bad, api.ErrBad}, {Store, api.ErrStore}, {Place, api.ErrPlace},
 		{At("here", Tape), api.ErrTape}, {At("there", At("here", Few)), api.ErrFew}, {errors.New("of no kind"), api.ErrBad},
+		{As(Images, Plan), api.ErrImages}, {At("there", As(Images, At("here", Tape))), api.ErrImages}, {As(Crash, errors.New("of no kind")), api.ErrCrash},
 	} {
 		if got := Number(c.err); got != c.want {
 			t.Errorf("Number(%v) = %d, want %d", c.err, got, c.want)
@@ -46,9 +47,26 @@ func TestWrapped(t *testing.T) {
 	}
 }
 
+func TestTold(t *testing.T) {
+	err := At("there", As(Images, At("here", Plan)))
+	if !errors.Is(err, Images) || !errors.Is(err, Plan) || errors.Is(err, Bad) {
+		t.Errorf("errors.Is of %v asks for the wrong kind", err)
+	}
+	var told *Told
+	if !errors.As(err, &told) || told.Kind != Images || !errors.Is(told.Err, Plan) {
+		t.Errorf("errors.As of %v finds %v", err, told)
+	}
+	if got, want := err.Error(), "there: not what lies at stores: here: no plan for so many stores"; got != want {
+		t.Errorf("the text is %q, want %q", got, want)
+	}
+	if As(Images, nil) != nil {
+		t.Error("no error, told as one of a kind, is one")
+	}
+}
+
 func TestTexts(t *testing.T) {
 	seen := map[string]Kind{}
-	for _, k := range []Kind{Name, Plan, Big, Twice, Full, Tape, Down, None, Few, Mode, Bad, Store, Place, Kind(99)} {
+	for _, k := range []Kind{Crash, Images, Name, Plan, Big, Twice, Full, Tape, Down, None, Few, Mode, Bad, Store, Place, Kind(99)} {
 		text := k.Error()
 		if other, ok := seen[text]; ok || text == "" {
 			t.Errorf("the kinds %d and %d have one text, %q", other, k, text)

@@ -14,6 +14,18 @@ import (
 type Record struct {
 	Object api.Object
 	Shard  []byte
+	// Next is the shard of the next epoch, laid beside the one of this epoch
+	// until all stores have it; else nil.
+	Next []byte
+}
+
+// Latest is what will be known of the object once Next has taken the place of
+// Shard.
+func (r Record) Latest() api.Object {
+	if r.Next != nil {
+		r.Object.Epoch++
+	}
+	return r.Object
 }
 
 // Store has its records in the order of their names. One that is new is up,
@@ -53,10 +65,25 @@ func (s *Store) Add(r Record) {
 	s.records = slices.Insert(s.records, at, r)
 }
 
-// Replace lays a record where the one of the same name lay.
-func (s *Store) Replace(r Record) {
-	s.Remove(r)
-	s.Add(r)
+// Lay lays the shard of r beside that of the record of the same name.
+func (s *Store) Lay(r Record) {
+	if at, found := s.place(r.Object.Name); found {
+		s.records[at].Next = r.Shard
+	}
+}
+
+// Turn lets the shard that was laid beside another take its place, if there is
+// one.
+func (s *Store) Turn(r Record) {
+	if at, found := s.place(r.Object.Name); found && s.records[at].Next != nil {
+		own := s.records[at]
+		s.records[at] = Record{Object: own.Latest(), Shard: own.Next}
+	}
+}
+
+// Drop takes away what was laid beside a shard.
+func (s *Store) Drop(r Record) {
+	s.Lay(Record{Object: r.Object})
 }
 
 // Remove takes away the record of the same name.

@@ -2,6 +2,7 @@ package store
 
 import (
 	"errors"
+	"strconv"
 	"strings"
 	"testing"
 
@@ -17,7 +18,11 @@ func record(name, shard string) Record {
 func lies(s *Store) string {
 	var all []string
 	for _, r := range s.Records() {
-		all = append(all, r.Object.Name+"="+string(r.Shard))
+		text := r.Object.Name + strconv.Itoa(r.Object.Epoch) + "=" + string(r.Shard)
+		if r.Next != nil {
+			text += "/" + string(r.Next)
+		}
+		all = append(all, text)
 	}
 	return strings.Join(all, " ")
 }
@@ -30,14 +35,23 @@ func TestRecords(t *testing.T) {
 		r    Record
 		want string
 	}{
-		{"Add", (*Store).Add, record("b", "1"), "b=1"},
-		{"Add", (*Store).Add, record("c", "2"), "b=1 c=2"},
-		{"Add", (*Store).Add, record("a", "3"), "a=3 b=1 c=2"},
-		{"Add", (*Store).Add, record("ba", "4"), "a=3 b=1 ba=4 c=2"},
-		{"Replace", (*Store).Replace, record("b", "5"), "a=3 b=5 ba=4 c=2"},
-		{"Remove", (*Store).Remove, record("b", ""), "a=3 ba=4 c=2"},
-		{"Remove", (*Store).Remove, record("b", ""), "a=3 ba=4 c=2"},
-		{"Remove", (*Store).Remove, record("c", "2"), "a=3 ba=4"},
+		{"Add", (*Store).Add, record("b", "1"), "b0=1"},
+		{"Add", (*Store).Add, record("c", "2"), "b0=1 c0=2"},
+		{"Add", (*Store).Add, record("a", "3"), "a0=3 b0=1 c0=2"},
+		{"Add", (*Store).Add, record("ba", "4"), "a0=3 b0=1 ba0=4 c0=2"},
+		{"Lay", (*Store).Lay, record("b", "5"), "a0=3 b0=1/5 ba0=4 c0=2"},
+		{"Drop", (*Store).Drop, record("b", "5"), "a0=3 b0=1 ba0=4 c0=2"},
+		{"Drop", (*Store).Drop, record("b", "5"), "a0=3 b0=1 ba0=4 c0=2"},
+		{"Turn", (*Store).Turn, record("b", "5"), "a0=3 b0=1 ba0=4 c0=2"},
+		{"Lay", (*Store).Lay, record("b", "6"), "a0=3 b0=1/6 ba0=4 c0=2"},
+		{"Turn", (*Store).Turn, record("b", ""), "a0=3 b1=6 ba0=4 c0=2"},
+		{"Turn", (*Store).Turn, record("b", ""), "a0=3 b1=6 ba0=4 c0=2"},
+		{"Lay", (*Store).Lay, record("d", "7"), "a0=3 b1=6 ba0=4 c0=2"},
+		{"Turn", (*Store).Turn, record("d", "7"), "a0=3 b1=6 ba0=4 c0=2"},
+		{"Drop", (*Store).Drop, record("d", "7"), "a0=3 b1=6 ba0=4 c0=2"},
+		{"Remove", (*Store).Remove, record("b", ""), "a0=3 ba0=4 c0=2"},
+		{"Remove", (*Store).Remove, record("b", ""), "a0=3 ba0=4 c0=2"},
+		{"Remove", (*Store).Remove, record("c", "2"), "a0=3 ba0=4"},
 	} {
 		c.do(s, c.r)
 		if got := lies(s); got != c.want {
@@ -49,6 +63,17 @@ func TestRecords(t *testing.T) {
 	}
 	if r, err := s.Record("b"); r.Shard != nil || !errors.Is(err, fault.None) || !strings.HasPrefix(err.Error(), "b: ") {
 		t.Errorf("Record of nothing = %v, %v", r, err)
+	}
+}
+
+func TestLatest(t *testing.T) {
+	r := record("a", "1")
+	if got := r.Latest(); got != (api.Object{Name: "a"}) {
+		t.Errorf("Latest of what has no next shard = %v", got)
+	}
+	r.Next = []byte("2")
+	if got := r.Latest(); got != (api.Object{Name: "a", Epoch: 1}) || r.Object.Epoch != 0 {
+		t.Errorf("Latest = %v, of %v", got, r.Object)
 	}
 }
 
@@ -76,7 +101,7 @@ func TestSpoil(t *testing.T) {
 	if err := s.Spoil("b", 0, 1); !errors.Is(err, fault.None) {
 		t.Errorf("Spoil of nothing = %v", err)
 	}
-	if got := lies(s); got != "a=AbC" {
+	if got := lies(s); got != "a0=AbC" {
 		t.Errorf("there lies %q", got)
 	}
 }

@@ -2,7 +2,6 @@ package vault
 
 import (
 	"errors"
-	"slices"
 	"strings"
 
 	"coffer/api"
@@ -12,50 +11,68 @@ import (
 	"coffer/store"
 )
 
-// call is a call that changes what lies at the stores.
+// call is a call that changes what lies at the stores. Recover removes,
+// finishes, takes back or leaves: which, hangs on what was cut off.
 type call int
 
 const (
 	put call = iota
 	remove
 	refresh
+	finish
+	takeBack
+	leave
 )
 
-// change is what a call does to each store.
-func (c call) change() func(*store.Store, store.Record) {
-	table := [...]func(*store.Store, store.Record){
-		put:     (*store.Store).Add,
-		remove:  (*store.Store).Remove,
-		refresh: (*store.Store).Replace,
+// step is what a write does to a store.
+type step func(*store.Store, store.Record)
+
+// steps is what a call does to each store; each step is done to all stores
+// ahead of the next. So a call that is cut off leaves enough to finish it or
+// to take it back.
+func (c call) steps() []step {
+	table := [...][]step{
+		put:      {(*store.Store).Add},
+		remove:   {(*store.Store).Remove},
+		refresh:  {(*store.Store).Lay, (*store.Store).Turn},
+		finish:   {(*store.Store).Turn},
+		takeBack: {(*store.Store).Drop},
+		leave:    {},
 	}
 	return table[c]
 }
 
-// write does what a call does to each store, with the record that is for it.
-func (v *Vault) write(c call, records []store.Record) {
-	change := c.change()
-	for i, s := range v.stores {
-		change(s, records[i])
+// write does what a call does to each store, with the record that is for it,
+// until a write crashes.
+func (v *Vault) write(c call, records []store.Record) error {
+	for _, do := range c.steps() {
+		for i, s := range v.stores {
+			if err := v.pen.next(); err != nil {
+				return fault.AtStore(i, err)
+			}
+			do(s, records[i])
+		}
 	}
+	return nil
 }
 
 // Put keeps a value at all stores.
 func (v *Vault) Put(name, value string, p api.Plan, tape string) error {
-	pieces, err := v.cut(name, value, p, tape)
+	object := api.Object{Name: name, Plan: p, Size: len(value)}
+	pieces, err := v.cut(object, value, tape)
 	if err != nil {
 		return fault.At("put", err)
 	}
-	object := api.Object{Name: strings.Clone(name), Plan: p, Size: len(value)}
-	v.write(put, v.records(object, pieces))
-	return nil
+	object.Name = strings.Clone(name)
+	return fault.At("put", v.write(put, v.records(object, pieces)))
 }
 
 // cut is the pieces of a value that can be put.
-func (v *Vault) cut(name, value string, p api.Plan, tape string) ([][]byte, error) {
-	if err := v.checkNew(name, p, len(value)); err != nil {
+func (v *Vault) cut(object api.Object, value, tape string) ([][]byte, error) {
+	if err := v.checkNew(object); err != nil {
 		return nil, err
 	}
-	pieces, err := cutting.Split(value, p, len(v.stores), tape)
+	pieces, err := cutting.Split(value, object.Plan, len(v.stores), tape)
 	if err != nil {
 		return nil, err
 	}
@@ -63,15 +80,15 @@ func (v *Vault) cut(name, value string, p api.Plan, tape string) ([][]byte, erro
 }
 
 // checkNew answers the errors of a new object that come ahead of the tape's.
-func (v *Vault) checkNew(name string, p api.Plan, size int) error {
-	if len(name) < 1 || len(name) > api.MaxName {
-		return fault.AtCount(len(name), "bytes", fault.Name)
-	}
-	if _, err := cutting.PieceLength(p, len(v.stores), size); err != nil {
+func (v *Vault) checkNew(object api.Object) error {
+	if err := v.pen.check(); err != nil {
 		return err
 	}
-	if _, err := v.object(name); !errors.Is(err, fault.None) {
-		return fault.At(name, fault.Twice)
+	if _, err := v.label(0, object).Length(); err != nil {
+		return err
+	}
+	if _, err := v.object(object.Name); !errors.Is(err, fault.None) {
+		return fault.At(object.Name, fault.Twice)
 	}
 	if count := len(v.Objects()); count >= api.MaxObjects {
 		return fault.AtCount(count, "objects", fault.Full)
@@ -88,8 +105,7 @@ func (v *Vault) Delete(name string) error {
 	if err := v.allUp(); err != nil {
 		return fault.At("delete", err)
 	}
-	v.write(remove, slices.Repeat([]store.Record{{Object: object}}, len(v.stores)))
-	return nil
+	return fault.At("delete", v.write(remove, v.everywhere(object)))
 }
 
 // Refresh makes the pieces of an object new, without its value being put
@@ -104,8 +120,7 @@ func (v *Vault) Refresh(name, tape string) error {
 		return fault.At("refresh", err)
 	}
 	object.Epoch++
-	v.write(refresh, v.records(object, pieces))
-	return nil
+	return fault.At("refresh", v.write(refresh, v.records(object, pieces)))
 }
 
 // refreshed is the pieces of an object, to each of which that of a value of

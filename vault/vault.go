@@ -9,11 +9,12 @@ import (
 	"coffer/store"
 )
 
-// Vault is the stores, and the key of the tags. Every store has a record of
-// every object.
+// Vault is the stores, the key of the tags, and the pen that writes. While it
+// is not crashed every store has a record of every object.
 type Vault struct {
 	key    uint64
 	stores []*store.Store
+	pen    pen
 }
 
 // Open makes a vault with n stores, or as near to n as there may be.
@@ -47,7 +48,7 @@ func (v *Vault) Up(number int, up bool) error {
 
 // Spoil changes one byte of a store's shard.
 func (v *Vault) Spoil(number int, name string, at int, with byte) error {
-	s, err := v.store(number)
+	s, err := v.openStore(number)
 	if err != nil {
 		return fault.At("spoil", err)
 	}
@@ -56,7 +57,7 @@ func (v *Vault) Spoil(number int, name string, at int, with byte) error {
 
 // Shard tells a store's shard. Its bytes are the store's own.
 func (v *Vault) Shard(number int, name string) ([]byte, error) {
-	s, err := v.store(number)
+	s, err := v.openStore(number)
 	if err != nil {
 		return nil, fault.At("shard", err)
 	}
@@ -64,8 +65,12 @@ func (v *Vault) Shard(number int, name string) ([]byte, error) {
 	return r.Shard, fault.At("shard", err)
 }
 
-// Objects lists the objects, in the order of their names.
+// Objects lists the objects, in the order of their names; none while the vault
+// is crashed, as it is open what there will be.
 func (v *Vault) Objects() []api.Object {
+	if v.pen.check() != nil {
+		return nil
+	}
 	var objects []api.Object
 	for _, r := range v.stores[0].Records() {
 		objects = append(objects, r.Object)
@@ -73,8 +78,12 @@ func (v *Vault) Objects() []api.Object {
 	return objects
 }
 
-// object tells what is known of an object, or answers fault.None.
+// object tells what is known of an object, or answers fault.Crash or
+// fault.None.
 func (v *Vault) object(name string) (api.Object, error) {
+	if err := v.pen.check(); err != nil {
+		return api.Object{}, err
+	}
 	r, err := v.stores[0].Record(name)
 	return r.Object, err
 }
@@ -85,6 +94,14 @@ func (v *Vault) store(number int) (*store.Store, error) {
 		return nil, fault.AtStore(number, fault.Store)
 	}
 	return v.stores[number], nil
+}
+
+// openStore is the store of that number, while the vault is not crashed.
+func (v *Vault) openStore(number int) (*store.Store, error) {
+	if err := v.pen.check(); err != nil {
+		return nil, err
+	}
+	return v.store(number)
 }
 
 // allUp answers fault.Down, if a store is down.
@@ -114,15 +131,11 @@ func (v *Vault) reached(object api.Object) []api.Piece {
 
 // piece takes the piece out of a store's shard, if that is good.
 func (v *Vault) piece(number int, object api.Object) ([]byte, error) {
-	length, err := cutting.PieceLength(object.Plan, len(v.stores), object.Size)
-	if err != nil {
-		return nil, err
-	}
 	r, err := v.stores[number].Record(object.Name)
 	if err != nil {
 		return nil, fault.AtStore(number, err)
 	}
-	piece, err := v.label(number, object).Piece(r.Shard, length, v.key)
+	piece, err := v.label(number, object).Piece(r.Shard, v.key)
 	return piece, fault.AtStore(number, err)
 }
 

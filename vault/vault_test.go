@@ -2,6 +2,7 @@ package vault
 
 import (
 	"errors"
+	"slices"
 	"strings"
 	"testing"
 	"unsafe"
@@ -35,6 +36,14 @@ func TestErrorsSayWhatAndWhere(t *testing.T) {
 	few := opened(t)
 	few.Up(0, false)
 	few.Up(1, false)
+	crashed := opened(t)
+	crashed.CrashAt(4)
+	crash := crashed.Refresh("shared", "tapes")
+	reopened := func(images ...string) error {
+		_, err := Reopen(images, 5)
+		return err
+	}
+	image := func(i int) string { return string(v.Images()[i]) }
 	for _, c := range []struct {
 		err   error
 		kind  fault.Kind
@@ -62,6 +71,19 @@ func TestErrorsSayWhatAndWhere(t *testing.T) {
 		{v.Spoil(0, "shared", 99, 1), fault.Place, "spoil", "99"},
 		{second(v.Shard(8, "shared")), fault.Store, "shard", "store 8"},
 		{second(v.Shard(0, "new")), fault.None, "shard", "new"},
+		{crash, fault.Crash, "refresh", "store 1"},
+		{crashed.Put("new", "", share(1, 1), ""), fault.Crash, "put", "crashed"},
+		{second(crashed.Get("shared")), fault.Crash, "get", "crashed"},
+		{crashed.Delete("shared"), fault.Crash, "delete", "crashed"},
+		{crashed.Refresh("shared", "tapes"), fault.Crash, "refresh", "crashed"},
+		{crashed.Spoil(0, "shared", 0, 1), fault.Crash, "spoil", "crashed"},
+		{second(crashed.Shard(0, "shared")), fault.Crash, "shard", "crashed"},
+		{down.Recover(), fault.Down, "recover", "store 2"},
+		{reopened(), fault.Images, "reopen", "0 images"},
+		{reopened(make([]string, 9)...), fault.Images, "reopen", "9 images"},
+		{reopened(image(0), image(1), image(2)[1:]), fault.Images, "reopen", "store 2: 0 records ahead"},
+		{reopened(image(0), image(2), image(1)), fault.Images, "reopen", "store 1: 0 records ahead: store 2"},
+		{reopened(image(0), image(1), ""), fault.Images, "reopen", "dispersed and shared"},
 	} {
 		var kind fault.Kind
 		var outer *fault.Located
@@ -109,6 +131,28 @@ func TestNothingHandedInIsKept(t *testing.T) {
 	}
 	if objects := v.Objects(); len(objects) != 1 || objects[0].Name != "name" {
 		t.Errorf("Objects = %v", objects)
+	}
+}
+
+func TestReopenKeepsNothingHandedIn(t *testing.T) {
+	v := opened(t)
+	var l lent
+	var images []string
+	for _, image := range v.Images() {
+		images = append(images, l.text(string(image)))
+	}
+	again, err := Reopen(images, 5)
+	if err != nil {
+		t.Fatal(err)
+	}
+	l.takeBack()
+	for _, name := range []string{"shared", "dispersed"} {
+		if value, err := again.Get(name); string(value) != "value" || err != nil {
+			t.Errorf("Get(%q) = %q, %v", name, value, err)
+		}
+	}
+	if got, want := again.Objects(), v.Objects(); !slices.Equal(got, want) {
+		t.Errorf("Objects = %v, want %v", got, want)
 	}
 }
 
